@@ -519,6 +519,9 @@ func TestHandedInStays(t *testing.T) {
 	l[1].Id = "c"
 	n.a.State().Pods[0].Phase = 9
 	n.a.Since()[0] = 77
+	if !slices.Equal(n.a.Since(), []int{-1, -1}) {
+		t.Error(n.a.Since())
+	}
 	n.tick("begin a")
 	if s := n.a.State(); !same(s, at(1, entry(pod("a", 0, 1), 2))) || !slices.Equal(n.a.Since(), []int{-1, -1}) {
 		t.Error(s, n.a.Since())
