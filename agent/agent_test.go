@@ -479,10 +479,10 @@ func TestFuseWaits(t *testing.T) {
 	n.has(n.table(), "a3")
 }
 
-// A save whose version would be too great.
+// P25.2, P25.5: a save whose version would be too great; of a fuse, too, that one's error is named first.
 func TestLastVersion(t *testing.T) {
 	body, _ := state.Put(at(5))
-	for _, steps := range []int{-1, 3} {
+	for steps, want := range map[int]api.Errno{-1: api.ErrFull, 3: api.ErrState} {
 		d := disk.New()
 		b, _ := frame.Put(1<<32-2, body)
 		d.Do(api.Op{Kind: api.OpWrite, Name: "main", Bytes: b})
@@ -492,7 +492,7 @@ func TestLastVersion(t *testing.T) {
 		if steps >= 0 {
 			n.a.Fuse(steps)
 		}
-		n.is("", api.ErrFull)(n.a.Tick())
+		n.is("", want)(n.a.Tick())
 		n.is("", api.ErrState)(n.a.Tick())
 		n.is("", api.ErrState)(n.a.Admit(pod("b", 0)))
 		if s, version := n.kept(); !same(s, at(5, entry(pod("a", 0), 1))) || version != 1<<32-1 {
